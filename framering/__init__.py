@@ -1,0 +1,1 @@
+"""A recorder that loses nothing but what it tells as lost."""
