@@ -34,8 +34,12 @@ def parameters_of(numbers):
     return [Parameter(three[0], three[1], three[2]) for three in threes(numbers)]
 
 
+def frame_parameters(parameters, number):
+    return [place for place, parameter in enumerate(parameters) if parameter.is_in_frame(number)]
+
+
 def frame_widths(parameters, number):
-    return [parameter.width for parameter in parameters if parameter.is_in_frame(number)]
+    return [parameters[place].width for place in frame_parameters(parameters, number)]
 
 
 def widest_frame(parameters):

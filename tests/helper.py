@@ -34,6 +34,30 @@ def read():
     return [5]
 
 
+def slot(number):
+    return [6, number]
+
+
+def dump():
+    return [7]
+
+
+def hear(what, p, n):
+    return [8, what, p, n]
+
+
+def listen(some):
+    return [9, len(some)] + list(some)
+
+
+def next_number():
+    return [10]
+
+
+def totals():
+    return [11]
+
+
 def join(calls):
     return [number for call in calls for number in call]
 
@@ -60,11 +84,26 @@ def last(*calls):
 
 
 def told(*frames):
-    """The answer of read for frames written (number, missing, [values])."""
+    """The answer of read, hear and listen for frames written (number, missing, [values])."""
     flat = [len(frames)]
     for number, missing, values in frames:
         flat += [number, missing, len(values)] + list(values)
     return flat
 
 
+def frame(number, *data):
+    """The bytes of a frame whose len bytes of values are data."""
+    head = [number // 256, number % 256] + list(data)
+    return head + [sum(head) // 256, sum(head) % 256] + head[:2]
+
+
+def sent(*frames):
+    """The bytes of whole frames as they go over the line."""
+    flat = []
+    for each in frames:
+        flat += [192] + [part for byte in each for part in ESCAPED.get(byte, [byte])] + [193]
+    return flat
+
+
+ESCAPED = {192: [194, 0], 193: [194, 1], 194: [194, 2]}
 ONE_BYTE = (8, 1, 0)
